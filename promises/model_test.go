@@ -386,6 +386,10 @@ func TestModel(t *testing.T) {
 				if k%40 == 0 {
 					w.lookAtAll(t, v, m)
 				}
+				if k%70 == 0 {
+					must(t, v.Sync())
+					v = opened(t, v.Image())
+				}
 			}
 			w.lookAtAll(t, v, m)
 		}

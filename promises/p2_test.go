@@ -1,6 +1,7 @@
 package promises
 
 import (
+	"bytes"
 	"fmt"
 	"slices"
 	"testing"
@@ -128,5 +129,32 @@ func TestP2Volumes(t *testing.T) {
 	}
 	if got := state(t, volume(t)); got != empty {
 		t.Errorf("a new Volume holds: %s", got)
+	}
+}
+
+// TestP2Images: an image that is handed in is neither written into nor kept, and one that comes out is new memory.
+func TestP2Images(t *testing.T) {
+	v := volume(t, "/d/", "/d/f", "/g")
+	must(t, v.Sync())
+	held, good := state(t, v), v.Image()
+	room := append(bytes.Clone(good), "behind"...)
+	w := opened(t, room[:len(good)])
+	first := w.Image()
+	must(t, w.Write("/d/f", 0, []byte("other")))
+	must(t, w.Sync())
+	if !bytes.Equal(room, append(bytes.Clone(good), "behind"...)) {
+		t.Error("what was handed in is written into")
+	}
+	other, image := state(t, w), w.Image()
+	clear(room)
+	told := w.Broken(0, nil)
+	for _, bytes := range [][]byte{w.Image(), w.Broken(-1, nil), w.Broken(0, nil), w.Broken(99, nil)} {
+		clear(bytes[:cap(bytes)])
+	}
+	if !bytes.Equal(w.Image(), image) || !bytes.Equal(w.Broken(0, nil), told) || !bytes.Equal(w.Broken(-1, nil), first) || state(t, w) != other {
+		t.Error("what is kept was handed in, or out")
+	}
+	if !bytes.Equal(v.Image(), good) || state(t, v) != held || v.Epochs() == 0 || w.Epochs() == 0 {
+		t.Error("two Volumes know of each other")
 	}
 }

@@ -3,26 +3,45 @@ package silt
 
 import (
 	"silt/api"
+	"silt/disk"
+	"silt/store"
 	"silt/tree"
 )
 
 // Volume is directories and files, and the disk on which they are kept.
 type Volume struct {
-	self *Volume // tells a Volume that was made here from a copy of one, and from an empty one
-	held *tree.Tree
+	self  *Volume // tells a Volume that was made here from a copy of one, and from an empty one
+	held  *tree.Tree
+	disk  *disk.Disk
+	store *store.Store
+}
+
+func newVolume(held *tree.Tree, d *disk.Disk, s *store.Store) *Volume {
+	v := &Volume{held: held, disk: d, store: s}
+	v.self = v
+	return v
 }
 
 func (v *Volume) made() bool { return v != nil && v.self == v }
 
 // Format makes a Volume with an empty root (P3).
 func Format() *Volume {
-	v := &Volume{held: tree.New()}
-	v.self = v
-	return v
+	held, d := tree.New(), disk.New()
+	return newVolume(held, d, store.Format(d, held))
 }
 
 // Open makes a Volume of a disk (P9).
-func Open(image []byte) (*Volume, api.Errno) { return nil, api.OK }
+func Open(image []byte) (*Volume, api.Errno) {
+	d, ok := disk.Of(image)
+	if !ok {
+		return nil, api.ErrImage
+	}
+	s, held, ok := store.Open(d)
+	if !ok {
+		return nil, api.ErrImage
+	}
+	return newVolume(held, d, s), api.OK
+}
 
 // Restore makes a Volume of a dump (P11).
 func Restore(dump string) (*Volume, api.Errno) { return nil, api.OK }
@@ -115,23 +134,47 @@ func (v *Volume) Sync() api.Errno {
 	if !v.made() {
 		return api.ErrClosed
 	}
+	v.store.Keep(v.held)
 	return api.OK
 }
 
 // Clean cleans the disk (P7).
-func (v *Volume) Clean() int { return 0 }
+func (v *Volume) Clean() int {
+	v.Sync()
+	return 0
+}
 
 // Image tells the disk (P8).
-func (v *Volume) Image() []byte { return nil }
+func (v *Volume) Image() []byte {
+	if !v.made() {
+		return nil
+	}
+	return v.disk.Image()
+}
 
 // Epochs tells how many flushes there were (P8).
-func (v *Volume) Epochs() int { return 0 }
+func (v *Volume) Epochs() int {
+	if !v.made() {
+		return 0
+	}
+	return v.disk.Epochs()
+}
 
 // Writes tells how many blocks were written in an epoch (P8).
-func (v *Volume) Writes(epoch int) int { return 0 }
+func (v *Volume) Writes(epoch int) int {
+	if !v.made() {
+		return 0
+	}
+	return v.disk.Writes(epoch)
+}
 
 // Broken tells the disk, if the power fails (P8).
-func (v *Volume) Broken(epoch int, lost []bool) []byte { return nil }
+func (v *Volume) Broken(epoch int, lost []bool) []byte {
+	if !v.made() {
+		return nil
+	}
+	return v.disk.Broken(epoch, lost)
+}
 
 // Dump tells what is held (P11).
 func (v *Volume) Dump() string { return "" }

@@ -3,28 +3,19 @@ package tree
 import "silt/api"
 
 // Write puts data into a file, and makes the file where there is nothing.
-func (t *Tree) Write(path string, at int, data []byte) (answer api.Errno) {
+func (t *Tree) Write(path string, at int, data []byte) api.Errno {
 	// Asked so, for at and the length together may be more than an int holds.
 	fits := at >= 0 && at <= api.MaxFile-len(data)
 	place, e := t.locate(path, fits)
 	if e != api.OK {
 		return e
 	}
-	if place.there && place.what.dir != nil {
-		return api.ErrDir
-	}
-	number := place.what.file
 	if !place.there {
-		if !t.mayMake(place.dir) {
-			return api.ErrMany
-		}
-		number = t.makeFile(place)
-		defer func() {
-			if answer != api.OK {
-				place.leave()
-				t.unlink(number)
-			}
-		}()
+		return t.makeFile(place, t.freeNumber(), overlaid(nil, at, data))
+	}
+	number, e := fileNumber(place)
+	if e != api.OK {
+		return e
 	}
 	f, _ := t.files.Get(number)
 	return t.fill(number, overlaid(f.data, at, data))
@@ -66,12 +57,20 @@ func (t *Tree) fill(number int, data []byte) (answer api.Errno) {
 	return api.OK
 }
 
-// makeFile makes an empty file with one link, and tells its number.
-func (t *Tree) makeFile(at spot) int {
-	number := t.freeNumber()
+// makeFile makes a file with one link, of a number that no other file has.
+func (t *Tree) makeFile(at spot, number int, data []byte) (answer api.Errno) {
+	if !t.mayMake(at.dir) {
+		return api.ErrMany
+	}
 	t.files.Put(number, file{links: 1})
 	at.enter(entry{file: number})
-	return number
+	defer func() {
+		if answer != api.OK {
+			at.leave()
+			t.unlink(number)
+		}
+	}()
+	return t.fill(number, data)
 }
 
 // freeNumber tells the lowest number that no file has.

@@ -4,16 +4,11 @@ import (
 	"strings"
 
 	"silt/api"
-	"silt/paths"
 )
 
 // Mkdir makes a directory.
 func (t *Tree) Mkdir(path string) api.Errno {
-	names, ok := paths.Names(path)
-	if !ok {
-		return api.ErrPath
-	}
-	at, e := t.followToGap(names)
+	at, e := t.locateGap(path)
 	if e != api.OK {
 		return e
 	}
@@ -59,12 +54,7 @@ func (t *Tree) Link(from string, to string) api.Errno {
 	if e != api.OK {
 		return e
 	}
-	if !t.mayLink(target.dir) {
-		return api.ErrMany
-	}
-	target.enter(entry{file: number})
-	t.link(number)
-	return api.OK
+	return t.makeLink(target, number)
 }
 
 // Move makes an entry stand elsewhere.
@@ -100,10 +90,16 @@ func mayMove(source spot, target spot, names int) bool {
 	return dir == nil || names+dir.height() <= api.MaxDepth
 }
 
-func (t *Tree) link(number int) {
+// makeLink makes an entry of a file that is there.
+func (t *Tree) makeLink(at spot, number int) api.Errno {
+	if !t.mayLink(at.dir) {
+		return api.ErrMany
+	}
 	f, _ := t.files.Get(number)
 	f.links++
 	t.files.Put(number, f)
+	at.enter(entry{file: number})
+	return api.OK
 }
 
 func (t *Tree) unlink(number int) {

@@ -66,6 +66,15 @@ func (t *Tree) locateThere(path string) (spot, api.Errno) {
 	return at, e
 }
 
+// locateGap goes through the path of what shall be made.
+func (t *Tree) locateGap(path string) (spot, api.Errno) {
+	names, ok := paths.Names(path)
+	if !ok {
+		return spot{}, api.ErrPath
+	}
+	return t.followToGap(names)
+}
+
 // locateFirst asks whether both are paths, and goes through the first; the names of the second are still to be gone through.
 func (t *Tree) locateFirst(first string, second string) (spot, []string, api.Errno) {
 	secondNames, ok := paths.Names(second)
