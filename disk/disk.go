@@ -26,21 +26,24 @@ type Disk struct {
 }
 
 // New makes a Disk of noughts.
-func New() *Disk {
-	return &Disk{first: make([]Block, api.Blocks), now: make([]Block, api.Blocks)}
-}
+func New() *Disk { return newDisk(make([]Block, api.Blocks)) }
 
 // Of makes a Disk of its bytes, and tells whether they are as many as a disk has.
 func Of(image []byte) (*Disk, bool) {
 	if len(image) != api.Blocks*api.Block {
 		return nil, false
 	}
-	d := New()
-	for i := range d.now {
-		d.now[i] = Block(image[i*api.Block:])
+	blocks := make([]Block, api.Blocks)
+	for i := range blocks {
+		blocks[i] = Block(image[i*api.Block:])
 	}
+	return newDisk(blocks), true
+}
+
+func newDisk(blocks []Block) *Disk {
+	d := &Disk{now: blocks}
 	d.Begin()
-	return d, true
+	return d
 }
 
 // Begin forgets what was written and flushed so far: it was there at first.
