@@ -19,13 +19,13 @@ func opened(t *testing.T, image []byte) *silt.Volume {
 	return v
 }
 
-// kept is what was held at a Sync, and how many flushes there were behind it.
+// kept is what was held at a Sync or a Clean, and how many flushes there were behind it.
 type kept struct {
 	state string
 	end   int
 }
 
-// life is a Volume, and what was kept of it: at first, and at each Sync.
+// life is a Volume, and what was kept of it: at first, and at each Sync and Clean.
 type life struct {
 	*testing.T
 	*rand.Rand
@@ -40,7 +40,28 @@ func newLife(t *testing.T, r *rand.Rand, v *silt.Volume) *life {
 func (l *life) sync() {
 	l.Helper()
 	must(l.T, l.v.Sync())
+	l.note()
+}
+
+func (l *life) clean() {
+	l.Helper()
+	cleans(l.T, "life", l.v)
+	l.note()
+}
+
+func (l *life) note() {
+	l.Helper()
 	l.kept = append(l.kept, kept{state(l.T, l.v), l.v.Epochs()})
+}
+
+// keep is a Sync, or now and then a Clean.
+func (l *life) keep() {
+	l.Helper()
+	if l.Intn(3) == 0 {
+		l.clean()
+	} else {
+		l.sync()
+	}
 }
 
 // turn does something, whatever comes of it.
@@ -101,7 +122,7 @@ func (l *life) fails(epoch int, lost []bool) *silt.Volume {
 	w := opened(l.T, l.v.Broken(epoch, lost))
 	got := state(l.T, w)
 	if got != fresh && (got != old || whole) {
-		l.Fatalf("epoch %d of %d, %v lost, the last one of a Sync and nothing lost: %v: it holds\n%s", epoch, l.v.Epochs(), lost, whole, got)
+		l.Fatalf("epoch %d of %d, %v lost, the last one of a Sync or Clean and nothing lost: %v: it holds\n%s", epoch, l.v.Epochs(), lost, whole, got)
 	}
 	return w
 }

@@ -356,6 +356,21 @@ func (w walk) lookAtAll(t *testing.T, v *silt.Volume, m model) {
 	}
 }
 
+// again keeps what is held, in one of both ways, and opens it; Check must tell of it what the model does.
+func (w walk) again(t *testing.T, v *silt.Volume, m model) *silt.Volume {
+	t.Helper()
+	if w.Intn(2) == 0 {
+		must(t, v.Sync())
+	} else if n := v.Clean(); n < 0 || n%api.Block != 0 {
+		t.Fatalf("Clean: %d", n)
+	}
+	r, e := silt.Check(v.Image())
+	if e != api.OK || r.Nodes != len(m.nodes()) || r.Usage != m.usage() {
+		t.Fatalf("Check: %+v, error %d, want %d nodes, of the usage %d", r, e, len(m.nodes()), m.usage())
+	}
+	return opened(t, v.Image())
+}
+
 // TestModel goes randomly, and holds the program against the model.
 func TestModel(t *testing.T) {
 	plays := []play{
@@ -387,8 +402,7 @@ func TestModel(t *testing.T) {
 					w.lookAtAll(t, v, m)
 				}
 				if k%70 == 0 {
-					must(t, v.Sync())
-					v = opened(t, v.Image())
+					v = w.again(t, v, m)
 				}
 			}
 			w.lookAtAll(t, v, m)

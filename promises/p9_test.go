@@ -38,18 +38,23 @@ func TestP9Example(t *testing.T) {
 	}
 }
 
-// TestP9NoImage: what is not read as what the program writes.
-func TestP9NoImage(t *testing.T) {
+// noImages: what is not read as what the program writes.
+func noImages(t *testing.T) map[string][]byte {
+	t.Helper()
 	const size = api.Blocks * api.Block
 	good := volume(t, "/a/", "/a/f").Image()
 	random := make([]byte, size)
 	rand.New(rand.NewSource(1)).Read(random)
-	for name, image := range map[string][]byte{
+	return map[string][]byte{
 		"nil": nil, "nothing": {}, "a byte": {1}, "a block": good[:api.Block], "a block less": good[:size-api.Block], "a byte less": good[:size-1], "the first byte less": good[1:],
 		"a byte more": append(slices.Clone(good), 0), "a block more": append(slices.Clone(good), make([]byte, api.Block)...), "two of them": append(slices.Clone(good), good...),
 		"noughts": make([]byte, size), "ones": bytes.Repeat([]byte{1}, size), "all bits": bytes.Repeat([]byte{255}, size), "at random": random, "a text": bytes.Repeat([]byte("silt\n"), size)[:size],
 		"moved by a byte": append(slices.Clone(good[1:]), good[0]), "moved by a block": append(slices.Clone(good[api.Block:]), good[:api.Block]...),
-	} {
+	}
+}
+
+func TestP9NoImage(t *testing.T) {
+	for name, image := range noImages(t) {
 		given := bytes.Clone(image)
 		if v, e := silt.Open(given); v != nil || e != api.ErrImage {
 			t.Errorf("%s: Volume %v, error %d, want %d", name, v != nil, e, api.ErrImage)
@@ -68,7 +73,7 @@ func TestP9PowerFails(t *testing.T) {
 			for range l.Intn(5) {
 				l.turn(300)
 			}
-			l.sync()
+			l.keep()
 		}
 		l.turn(300)
 		l.failsEverywhere()
@@ -133,6 +138,26 @@ func TestP9PowerFailsScattered(t *testing.T) {
 	l.failsLate()
 }
 
+// TestP9PowerFailsInClean: what Clean writes onward stood on the disk already, and must stand there until the new one does.
+func TestP9PowerFailsInClean(t *testing.T) {
+	l := newLife(t, rand.New(rand.NewSource(3)), fullDisk(t))
+	for turn := range 60 {
+		l.scatter(turn)
+		if turn%12 != 11 {
+			l.sync()
+			continue
+		}
+		from := l.v.Epochs()
+		l.clean()
+		for epoch := from; epoch < l.v.Epochs(); epoch++ {
+			for _, lost := range l.someLost(l.v.Writes(epoch)) {
+				w := l.fails(epoch, lost)
+				cleans(t, fmt.Sprintf("turn %d, epoch %d", turn, epoch), w)
+			}
+		}
+	}
+}
+
 // TestP9PowerFailsAgain: what is opened behind a failure goes on, until the next one.
 func TestP9PowerFailsAgain(t *testing.T) {
 	for seed := range 5 {
@@ -144,7 +169,7 @@ func TestP9PowerFailsAgain(t *testing.T) {
 				for range r.Intn(4) {
 					l.turn(700)
 				}
-				l.sync()
+				l.keep()
 			}
 			epoch := r.Intn(l.v.Epochs() + 1)
 			choice := l.someLost(l.v.Writes(epoch))
@@ -160,7 +185,7 @@ func TestP9OneByte(t *testing.T) {
 		for range 3 {
 			l.turn(400)
 		}
-		l.sync()
+		l.keep()
 	}
 	was := map[string]int{}
 	for _, k := range l.kept {
@@ -206,15 +231,11 @@ func TestP9OneByte(t *testing.T) {
 	}
 }
 
-// TestP9ManyBytes: whatever is changed, Open ends, and what it opens can be used.
-func TestP9ManyBytes(t *testing.T) {
-	l := newLife(t, rand.New(rand.NewSource(6)), volume(t))
-	for range 25 {
-		l.turn(400)
-		l.sync()
-	}
+// spoilt are images of which many bytes are others.
+func (l *life) spoilt(n int) [][]byte {
 	good := l.v.Image()
-	for range 400 {
+	var images [][]byte
+	for range n {
 		image := bytes.Clone(good)
 		for range 1 + l.Intn(6) {
 			from, to := l.Intn(len(image)), l.Intn(len(image))
@@ -227,6 +248,19 @@ func TestP9ManyBytes(t *testing.T) {
 				image[from] = byte(l.Intn(256))
 			}
 		}
+		images = append(images, image)
+	}
+	return images
+}
+
+// TestP9ManyBytes: whatever is changed, Open ends, and what it opens can be used.
+func TestP9ManyBytes(t *testing.T) {
+	l := newLife(t, rand.New(rand.NewSource(6)), volume(t))
+	for range 25 {
+		l.turn(400)
+		l.keep()
+	}
+	for _, image := range l.spoilt(400) {
 		v, e := silt.Open(image)
 		if e == api.OK {
 			keeps(t, "a changed image", v)

@@ -47,7 +47,13 @@ func Open(image []byte) (*Volume, api.Errno) {
 func Restore(dump string) (*Volume, api.Errno) { return nil, api.OK }
 
 // Check looks through a disk (P10).
-func Check(image []byte) (api.Report, api.Errno) { return api.Report{}, api.OK }
+func Check(image []byte) (api.Report, api.Errno) {
+	v, e := Open(image)
+	if e != api.OK {
+		return api.Report{}, e
+	}
+	return api.Report{Nodes: v.held.Nodes(), Usage: v.held.Usage(), Live: v.store.Live(), Free: v.store.Free()}, api.OK
+}
 
 // Mkdir makes a directory (P4).
 func (v *Volume) Mkdir(path string) api.Errno {
@@ -138,10 +144,14 @@ func (v *Volume) Sync() api.Errno {
 	return api.OK
 }
 
-// Clean cleans the disk (P7).
+// Clean keeps what is held, and cleans the disk (P7).
 func (v *Volume) Clean() int {
-	v.Sync()
-	return 0
+	if !v.made() {
+		return 0
+	}
+	ahead := v.store.Free()
+	v.store.Clean(v.held)
+	return api.Block * max(0, v.store.Free()-ahead)
 }
 
 // Image tells the disk (P8).

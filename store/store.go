@@ -47,6 +47,25 @@ func (s *Store) Keep(held *tree.Tree) {
 	s.carryOut(p)
 }
 
+// Clean keeps what is held, and writes onward what is left in parts in which little is needed, as long as by this more is free.
+// Where something is moved all that leads there is too, so that it may cost as much as it gains: then it is left where it stands.
+func (s *Store) Clean(held *tree.Tree) {
+	s.Keep(held)
+	for {
+		p := newPlan(s.disk, &s.kept, held, true)
+		if p.after.free() <= s.kept.free() {
+			return
+		}
+		s.carryOut(p)
+	}
+}
+
+// Live tells how many blocks are needed.
+func (s *Store) Live() int { return checkpoints + s.kept.places.Len() }
+
+// Free tells how many blocks stand in parts into which can be written onward.
+func (s *Store) Free() int { return s.kept.free() }
+
 // carryOut writes what is planned. Up to the last flush the disk leads to the state before.
 func (s *Store) carryOut(p *plan) {
 	for _, piece := range p.pieces {

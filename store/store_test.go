@@ -289,6 +289,109 @@ func TestCleanedFar(t *testing.T) {
 	}
 }
 
+// TestClean: what is kept already is written only where by this more is free, and not again.
+func TestClean(t *testing.T) {
+	moved := 0
+	for seed := range 6 {
+		r := rand.New(rand.NewSource(int64(seed)))
+		held := tree.New()
+		s := Format(disk.New(), held)
+		for turn := range 150 {
+			life(r, held)
+			s.Keep(held)
+			if turn%5 > 0 {
+				continue
+			}
+			free, from := s.Free(), s.disk.Epochs()
+			s.Clean(held)
+			opens(t, s, held)
+			written := 0
+			for epoch := from; epoch < s.disk.Epochs(); epoch++ {
+				written += s.disk.Writes(epoch)
+			}
+			moved += written
+			if s.Free() < free || (s.Free() > free) != (written > 0) {
+				t.Fatalf("%d blocks are written, %d are free, and %d were", written, s.Free(), free)
+			}
+			again := s.disk.Epochs()
+			s.Clean(held)
+			if s.disk.Epochs() != again+1 || s.disk.Writes(again) != 0 {
+				t.Fatal("cleaned again at once")
+			}
+		}
+	}
+	if moved == 0 {
+		t.Error("nothing was cleaned")
+	}
+}
+
+// TestCleanSparse: behind it there are so few parts in which something is left that no more can be gained.
+func TestCleanSparse(t *testing.T) {
+	held := full()
+	s := Format(disk.New(), held)
+	for turn := range 100 {
+		held.Write(fmt.Sprint("/f", turn/20), turn%20*api.Block, []byte("new"))
+		held.Write("/f7", 0, []byte{byte(turn)})
+		s.Keep(held)
+	}
+	before := s.Free()
+	s.Clean(held)
+	opens(t, s, held)
+	// All blocks of the state fill 13 parts; twice as many would be half empty.
+	if used := api.Blocks - s.Free(); before > api.Blocks*2/3 || used > 26*partBlocks {
+		t.Errorf("%d blocks are free, %d were", s.Free(), before)
+	}
+}
+
+// TestFree: whatever stands in parts that are free, the state is the same, and so is the next one.
+func TestFree(t *testing.T) {
+	r := rand.New(rand.NewSource(1))
+	held := full()
+	s := Format(disk.New(), held)
+	for range 60 {
+		life(r, held)
+		s.Keep(held)
+	}
+	d, _ := disk.Of(s.disk.Image())
+	spoilt := 0
+	for part, n := range s.kept.needed() {
+		for place := part * partBlocks; n == 0 && place < (part+1)*partBlocks; place++ {
+			b := disk.Block{}
+			r.Read(b[:])
+			d.Write(disk.Piece{Place: place, Block: b})
+			spoilt++
+		}
+	}
+	other, read, ok := Open(d)
+	if !ok || told(read) != told(held) || other.Free() != s.Free() || spoilt != s.Free() || other.Live() != s.Live() {
+		t.Fatalf("opened: %v, %d blocks were spoilt, %d are free", ok, spoilt, s.Free())
+	}
+	life(r, held)
+	other.Keep(held)
+	opens(t, other, held)
+}
+
+// TestEveryLead: of a checkpoint no byte can be any other.
+func TestEveryLead(t *testing.T) {
+	held := full()
+	s := Format(disk.New(), held)
+	held.Remove("/f1")
+	s.Clean(held)
+	for i := range checkpoints * api.Block {
+		place, was := i/api.Block, s.disk.At(i/api.Block)
+		for by := 1; by < 256; by++ {
+			b := was
+			b[i%api.Block] ^= byte(by)
+			s.disk.Write(disk.Piece{Place: place, Block: b})
+			if _, _, ok := Open(s.disk); ok {
+				t.Fatalf("byte %d changed by %d is opened", i, by)
+			}
+		}
+		s.disk.Write(disk.Piece{Place: place, Block: was})
+	}
+	opens(t, s, held)
+}
+
 // TestEveryByte: of what is needed no byte can be changed unseen, and what is not needed is not asked for.
 func TestEveryByte(t *testing.T) {
 	held := tree.New()

@@ -38,8 +38,13 @@ func (t *Tree) mayLink(d *directory) bool {
 
 // mayMake tells whether d may have one more entry, of a node that is new.
 func (t *Tree) mayMake(d *directory) bool {
+	return t.mayLink(d) && t.Nodes() < api.MaxNodes
+}
+
+// Nodes tells how many directories and files there are, with the root.
+func (t *Tree) Nodes() int {
 	directories, _ := t.root.count()
-	return t.mayLink(d) && directories+t.files.Len() < api.MaxNodes
+	return directories + t.files.Len()
 }
 
 // Usage tells how many blocks the bytes of all files fill.
