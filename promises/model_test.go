@@ -356,7 +356,8 @@ func (w walk) lookAtAll(t *testing.T, v *silt.Volume, m model) {
 	}
 }
 
-// again keeps what is held, in one of both ways, and opens it; Check must tell of it what the model does.
+// again keeps what is held, in one of both ways, and opens it, or restores it from its Dump;
+// Check and Dump must tell of it what the model does.
 func (w walk) again(t *testing.T, v *silt.Volume, m model) *silt.Volume {
 	t.Helper()
 	if w.Intn(2) == 0 {
@@ -367,6 +368,10 @@ func (w walk) again(t *testing.T, v *silt.Volume, m model) *silt.Volume {
 	r, e := silt.Check(v.Image())
 	if e != api.OK || r.Nodes != len(m.nodes()) || r.Usage != m.usage() {
 		t.Fatalf("Check: %+v, error %d, want %d nodes, of the usage %d", r, e, len(m.nodes()), m.usage())
+	}
+	dumps(t, "walk", v, m.dump())
+	if w.Intn(2) == 0 {
+		return restored(t, "walk", v.Dump())
 	}
 	return opened(t, v.Image())
 }

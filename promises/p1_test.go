@@ -77,7 +77,11 @@ func TestP1NoPanicElse(t *testing.T) {
 		silt.Check(b)
 	}
 	for _, p := range oddTexts() {
-		silt.Restore(p)
+		for _, text := range []string{p, "silt\n" + p, "silt\nd " + p + "\n", "silt\nf " + p + " 0\n", "silt\nf /f " + p, "silt\nf /f 1\n" + p, "silt\nf /f 0\nl " + p + " /f\n", "silt\nf /f 0\nl /l " + p + "\n"} {
+			if v, e := silt.Restore(text); (v == nil) != (e != api.OK) || e != api.OK && e != api.ErrDump {
+				t.Errorf("Restore(%.40q): a Volume: %v, beside the error %d", text, v != nil, e)
+			}
+		}
 	}
 	for _, v := range oddVolumes(t) {
 		for _, n := range oddNumbers() {

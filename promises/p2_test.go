@@ -5,6 +5,7 @@ import (
 	"fmt"
 	"slices"
 	"testing"
+	"unsafe"
 
 	"silt/api"
 )
@@ -157,4 +158,30 @@ func TestP2Images(t *testing.T) {
 	if !bytes.Equal(v.Image(), good) || state(t, v) != held || v.Epochs() == 0 || w.Epochs() == 0 {
 		t.Error("two Volumes know of each other")
 	}
+}
+
+// TestP2Dumps: of a text that is restored nothing is kept, and one that comes out stays as it is.
+func TestP2Dumps(t *testing.T) {
+	v := volume(t, "/d/", "/d/f", "/g")
+	must(t, v.Link("/g", "/l"))
+	dump := v.Dump()
+	room := []byte(dump)
+	w := restored(t, "a text", unsafe.String(&room[0], len(room)))
+	x := restored(t, "a text", dump)
+	if string(room) != dump {
+		t.Error("what was handed in is written into")
+	}
+	for i := range room {
+		room[i] = '#'
+	}
+	dumps(t, "the text is gone", w, dump)
+	keeps(t, "the text is gone", w)
+	told := w.Dump()
+	must(t, w.Write("/d/f", 0, []byte("other")))
+	must(t, w.Move("/d", "/e"))
+	if told != dump {
+		t.Errorf("what was told is now %q", told)
+	}
+	dumps(t, "the first Volume", v, dump)
+	dumps(t, "another one of the same text", x, dump)
 }

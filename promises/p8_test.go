@@ -33,7 +33,8 @@ func differing(a []byte, b []byte) int {
 
 func TestP8AtFirst(t *testing.T) {
 	v := volume(t)
-	for i, v := range []*silt.Volume{v, opened(t, v.Image())} {
+	dump := volume(t, "/a/", "/a/f", "/g").Dump()
+	for i, v := range []*silt.Volume{v, opened(t, v.Image()), restored(t, "at first", dump)} {
 		if v.Epochs() != 0 {
 			t.Errorf("Volume %d: %d epochs", i, v.Epochs())
 		}

@@ -4,6 +4,7 @@ package silt
 import (
 	"silt/api"
 	"silt/disk"
+	"silt/dumps"
 	"silt/store"
 	"silt/tree"
 )
@@ -22,13 +23,16 @@ func newVolume(held *tree.Tree, d *disk.Disk, s *store.Store) *Volume {
 	return v
 }
 
+// formatted makes a Volume that holds something, and keeps it on a new disk.
+func formatted(held *tree.Tree) *Volume {
+	d := disk.New()
+	return newVolume(held, d, store.Format(d, held))
+}
+
 func (v *Volume) made() bool { return v != nil && v.self == v }
 
 // Format makes a Volume with an empty root (P3).
-func Format() *Volume {
-	held, d := tree.New(), disk.New()
-	return newVolume(held, d, store.Format(d, held))
-}
+func Format() *Volume { return formatted(tree.New()) }
 
 // Open makes a Volume of a disk (P9).
 func Open(image []byte) (*Volume, api.Errno) {
@@ -44,7 +48,13 @@ func Open(image []byte) (*Volume, api.Errno) {
 }
 
 // Restore makes a Volume of a dump (P11).
-func Restore(dump string) (*Volume, api.Errno) { return nil, api.OK }
+func Restore(dump string) (*Volume, api.Errno) {
+	held, ok := dumps.Read(dump)
+	if !ok {
+		return nil, api.ErrDump
+	}
+	return formatted(held), api.OK
+}
 
 // Check looks through a disk (P10).
 func Check(image []byte) (api.Report, api.Errno) {
@@ -187,4 +197,9 @@ func (v *Volume) Broken(epoch int, lost []bool) []byte {
 }
 
 // Dump tells what is held (P11).
-func (v *Volume) Dump() string { return "" }
+func (v *Volume) Dump() string {
+	if !v.made() {
+		return ""
+	}
+	return dumps.Of(v.held)
+}
